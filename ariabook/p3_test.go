@@ -1,0 +1,33 @@
+package ariabook_test
+
+import (
+	"testing"
+
+	"ariabook/api"
+	"ariabook/ariabook"
+)
+
+func TestP3New(t *testing.T) {
+	for _, batch := range append(edges(), 7) {
+		for _, workers := range append(edges(), 7) {
+			want := api.OK
+			if batch < 1 || batch > 8 || workers < 1 || workers > 5 {
+				want = api.ErrArg
+			}
+			b, e := ariabook.New(batch, workers)
+			if e != want || (b != nil) != (want == api.OK) {
+				t.Errorf("New(%d, %d) = %v, %d, want error %d", batch, workers, b, e, want)
+			}
+		}
+	}
+}
+
+func TestP3ABookIsEmpty(t *testing.T) {
+	for _, c := range [][2]int{{1, 1}, {1, 5}, {8, 1}, {8, 5}} {
+		b := bookOf(t, c[0], c[1])
+		if log := b.Log(); log != "" {
+			t.Errorf("New(%d, %d): its log is %x", c[0], c[1], log)
+		}
+		accept(t, b, 1, []api.Ins{{}})
+	}
+}
