@@ -56,27 +56,68 @@ func TestP1SubmitNeverPanics(t *testing.T) {
 	}
 }
 
-func TestP1OtherCallsNeverPanic(t *testing.T) {
-	for _, filled := range []bool{false, true} {
-		b := book(t)
-		if filled {
-			fill(t, b, 1)
+// states are books in all kinds of states: new, with programs that wait, amid the batches, at the end of them.
+func states(t *testing.T) []*ariabook.Book {
+	t.Helper()
+	var books []*ariabook.Book
+	for _, batches := range []int{0, 1, 3, 100} {
+		for _, size := range []int{1, 8} {
+			empty, some, full := bookOf(t, size, 5), bookOf(t, size, 1), bookOf(t, size, 3)
+			handIn(t, some, mixed()...)
+			handIn(t, some, counter(), counter(), code(set(0, 1), jump(0, 1)))
+			handIn(t, full, counter(), code(div(0, 0)))
+			fill(t, full, 3)
+			for _, b := range []*ariabook.Book{empty, some, full} {
+				for range batches {
+					b.Batch()
+				}
+				books = append(books, b)
+			}
 		}
+	}
+	return books
+}
+
+func TestP1OtherCallsNeverPanic(t *testing.T) {
+	for _, b := range states(t) {
 		for _, n := range edges() {
-			b.Result(n)
+			if d, e := b.Result(n); e != api.OK && d != (api.Done{}) {
+				t.Errorf("Result(%d) = %v, with error %d", n, d, e)
+			}
 			ariabook.Replay(b.Log(), n, n)
 			ariabook.Replay(b.Log(), 1, n)
 			ariabook.Replay(b.Log(), n, 1)
 		}
 		for _, text := range texts() {
-			b.Get(text)
+			if n, e := b.Get(text); e != api.OK && n != 0 {
+				t.Errorf("Get(%.20q) = %d, with error %d", text, n, e)
+			}
 			ariabook.Replay(text, 1, 1)
 			ariabook.Replay(b.Log()+text, 1, 1)
 		}
 		b.All()
 		b.Batch()
 		b.Flush()
+		b.All()
 		b.Log()
+	}
+}
+
+// Every instruction, at the numbers at which an arithmetic may go wrong, is run and ends.
+func TestP1RunsNeverPanic(t *testing.T) {
+	for _, n := range edges() {
+		for _, m := range edges() {
+			b := bookOf(t, 8, 5)
+			for op := range 12 {
+				handIn(t, b, code(set(0, n), set(1, m), api.Ins{Op: op, S: 1, Key: "k", N: 2}, put("k", 0), out(0)))
+			}
+			b.Flush()
+			for id := 1; id <= 12; id++ {
+				if d, e := b.Result(id); d.ID != id || e != api.OK {
+					t.Errorf("Result(%d) = %v, %d", id, d, e)
+				}
+			}
+		}
 	}
 }
 

@@ -1,6 +1,7 @@
 package ariabook_test
 
 import (
+	"fmt"
 	"slices"
 	"testing"
 
@@ -94,20 +95,156 @@ func TestP2BooksDoNotTouch(t *testing.T) {
 	accept(t, empty, 1, mixed()[0])
 }
 
+// busy are programs that are in one another's way in all ways, and fail in all ways.
+func busy() [][]api.Ins {
+	return slices.Concat(mixed(), [][]api.Ins{
+		counter(), code(get(0, "x"), out(0), put("y", 0)), counter(), code(get(0, "y"), put("x", 0)), code(del("x"), put("abcd", 2)), code(has(0, "abcd"), out(0)),
+		code(get(0, "x"), get(1, "z"), div(0, 1), put("z", 0)), code(set(0, 1), put("p", 0), jump(0, 1)), code(put("p", 0), put("q", 0), put("r", 0), put("s", 0), put("t", 0)), code(put("p", 0), put("q", 0), put("r", 0), put("s", 0)), counter(),
+	})
+}
+
+// transcript does the same with the book whatever it is, and writes down all that it answers.
+func transcript(b *ariabook.Book, programs [][]api.Ins) string {
+	s := ""
+	note := func() {
+		s += fmt.Sprintf("%v %x\n", b.All(), b.Log())
+		for id := range 62 {
+			s += fmt.Sprintln(b.Result(id))
+		}
+		for _, key := range []string{"x", "y", "z", "abcd", "p", "q", "t", "none", ""} {
+			s += fmt.Sprintln(b.Get(key))
+		}
+	}
+	for i, c := range programs {
+		s += fmt.Sprintln(b.Submit(c))
+		if i%5 == 4 {
+			s += fmt.Sprintln(b.Batch())
+			note()
+		}
+	}
+	s += fmt.Sprintln(b.Batch(), b.Batch(), b.Flush(), b.Flush(), b.Batch())
+	note()
+	return s
+}
+
 func TestP2NothingHangsOnTheWorkers(t *testing.T) {
-	want := ""
 	for batch := 1; batch <= 8; batch++ {
+		want := transcript(bookOf(t, batch, 1), busy())
 		for workers := 1; workers <= 5; workers++ {
-			b := bookOf(t, batch, workers)
-			for i, code := range mixed() {
-				accept(t, b, i+1, code)
-			}
-			if want == "" {
-				want = b.Log()
-			}
-			if b.Log() != want {
-				t.Errorf("New(%d, %d): another log", batch, workers)
+			for range 10 {
+				if got := transcript(bookOf(t, batch, workers), busy()); got != want {
+					t.Fatalf("New(%d, %d) answers otherwise than with 1 worker", batch, workers)
+				}
 			}
 		}
+	}
+}
+
+// spoil writes into all of a list, its spare room too, and grows it.
+func spoil[T any](list []T, with T) {
+	list = list[:cap(list)]
+	for i := range list {
+		list[i] = with
+	}
+	for range 20 {
+		list = append(list, with)
+	}
+	for i := range list {
+		list[i] = with
+	}
+}
+
+func TestP2ListsThatComeOutAreTheCallers(t *testing.T) {
+	spoiled, left := bookOf(t, 3, 3), bookOf(t, 3, 3)
+	handIn(t, spoiled, busy()...)
+	handIn(t, left, busy()...)
+	for {
+		one, other := spoiled.Batch(), left.Batch()
+		if !slices.Equal(one, other) {
+			t.Fatalf("Batch = %v behind lists that were written over, else %v", one, other)
+		}
+		if len(one) == 0 {
+			break
+		}
+		spoil(one, api.Done{ID: 77, Batch: 78, Outcome: 79, Output: 80})
+		spoil(spoiled.All(), api.Pair{Key: "spoilt", Number: 81})
+		if !slices.Equal(spoiled.All(), left.All()) {
+			t.Errorf("All = %v behind lists that were written over, else %v", spoiled.All(), left.All())
+		}
+		for id := 1; id <= len(busy()); id++ {
+			d, e := spoiled.Result(id)
+			if want, wantErr := left.Result(id); d != want || e != wantErr {
+				t.Errorf("Result(%d) = %v, %d behind lists that were written over, else %v, %d", id, d, e, want, wantErr)
+			}
+		}
+	}
+	if spoiled.Log() != left.Log() {
+		t.Error("the log hangs on what the caller wrote into lists")
+	}
+}
+
+func TestP2EarlierListsStay(t *testing.T) {
+	b := bookWith(t, 3, busy()...)
+	var tellings, told [][]api.Done
+	var alls, pairs [][]api.Pair
+	for range 20 {
+		l, all := b.Batch(), b.All()
+		tellings, told = append(tellings, l), append(told, slices.Clone(l))
+		alls, pairs = append(alls, all), append(pairs, slices.Clone(all))
+	}
+	for i := range tellings {
+		if !slices.Equal(tellings[i], told[i]) || !slices.Equal(alls[i], pairs[i]) {
+			t.Errorf("behind batch %d a later call changed an earlier answer", i+1)
+		}
+	}
+}
+
+// The program runs as it was handed in, whatever the caller writes there since.
+func TestP2RunsWhatWasHandedIn(t *testing.T) {
+	b := bookOf(t, 2, 2)
+	for range 3 {
+		whole, front := roomy(counter())
+		handIn(t, b, front)
+		for i := range whole {
+			whole[i] = fail()
+		}
+	}
+	batchTells(t, b, " 1+1")
+	batchTells(t, b, " 2+2")
+	batchTells(t, b, " 3+3")
+}
+
+func TestP2BooksDoNotTouchInBatches(t *testing.T) {
+	alone := transcript(bookOf(t, 4, 2), busy())
+	other := bookWith(t, 8, busy()...)
+	other.Batch()
+	before := fmt.Sprint(other.All(), other.Log())
+	if transcript(bookOf(t, 4, 2), busy()) != alone {
+		t.Error("a book answers otherwise among others than alone")
+	}
+	if fmt.Sprint(other.All(), other.Log()) != before {
+		t.Error("a book is changed by what is asked of another")
+	}
+}
+
+// Calls that only tell change nothing.
+func TestP2TellingChangesNothing(t *testing.T) {
+	asked, left := bookOf(t, 3, 2), bookOf(t, 3, 2)
+	handIn(t, asked, busy()...)
+	handIn(t, left, busy()...)
+	for range 20 {
+		asked.All()
+		asked.Log()
+		for id := range 62 {
+			asked.Result(id)
+		}
+		asked.Get("none")
+		asked.Get("x")
+		if one, other := asked.Batch(), left.Batch(); !slices.Equal(one, other) {
+			t.Errorf("Batch = %v behind calls that tell, else %v", one, other)
+		}
+	}
+	if !slices.Equal(asked.All(), left.All()) || asked.Log() != left.Log() {
+		t.Error("calls that tell changed the book")
 	}
 }

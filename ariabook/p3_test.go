@@ -28,6 +28,8 @@ func TestP3ABookIsEmpty(t *testing.T) {
 		if log := b.Log(); log != "" {
 			t.Errorf("New(%d, %d): its log is %x", c[0], c[1], log)
 		}
+		holds(t, b)
+		nothingIsDone(t, b)
 		accept(t, b, 1, []api.Ins{{}})
 	}
 }

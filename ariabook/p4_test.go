@@ -141,3 +141,34 @@ func TestP4Full(t *testing.T) {
 		refuse(t, b, api.ErrProc, []api.Ins{{Op: api.Get}})
 	}
 }
+
+func TestP4WaitsBehindAllThatWait(t *testing.T) {
+	b := bookOf(t, 1, 1)
+	for n := 1; n <= 60; n++ {
+		accept(t, b, n, []api.Ins{{Op: api.Set, N: -n}, {Op: api.Out}})
+		waits(t, b, n)
+		refuse(t, b, api.ErrProc, nil)
+	}
+	refuse(t, b, api.ErrFull, []api.Ins{{}})
+	for n := 1; n <= 60; n++ {
+		if l := b.Batch(); len(l) != 1 || l[0].ID != n || l[0].Output != -n {
+			t.Errorf("batch %d tells %v", n, l)
+		}
+	}
+	nothingIsDone(t, b)
+}
+
+// 60 are all that may be handed in, those that were decided too.
+func TestP4FullBehindBatches(t *testing.T) {
+	b := bookOf(t, 4, 2)
+	for n := 1; n <= 60; n++ {
+		accept(t, b, n, counter())
+		b.Flush()
+	}
+	refuse(t, b, api.ErrFull, counter())
+	b.Batch()
+	refuse(t, b, api.ErrFull, counter())
+	refuse(t, b, api.ErrProc, nil)
+	nothingIsDone(t, b)
+	holds(t, b, api.Pair{Key: "x", Number: 60})
+}

@@ -72,3 +72,61 @@ func TestP5FullBook(t *testing.T) {
 		t.Errorf("Log of a full book = %x, want %x", b.Log(), want)
 	}
 }
+
+func TestP5EntriesOfBatches(t *testing.T) {
+	program, batch := bytesOf(t, "5303000a0302ba0e"), bytesOf(t, "4200009660")
+	code := []api.Ins{{Op: api.Out, R: 3, S: 2}}
+	b, want := bookOf(t, 2, 2), ""
+	tells := func(behind string) {
+		t.Helper()
+		if log := b.Log(); log != want {
+			t.Errorf("Log behind %s = %x, want %x", behind, log, want)
+		}
+	}
+	b.Batch()
+	tells("a batch of nothing")
+	b.Flush()
+	tells("Flush of nothing")
+	accept(t, b, 1, code)
+	accept(t, b, 2, code)
+	accept(t, b, 3, code)
+	b.Batch()
+	want += strings.Repeat(program, 3) + batch
+	tells("three programs and a batch")
+	accept(t, b, 4, code)
+	accept(t, b, 5, code)
+	b.Flush()
+	want += strings.Repeat(program, 2) + batch + batch
+	tells("two programs more and Flush")
+	b.Batch()
+	b.Flush()
+	refuse(t, b, api.ErrProc, nil)
+	tells("batches of nothing")
+	b.All()
+	b.Get("a")
+	b.Result(1)
+	tells("calls that tell")
+	accept(t, b, 6, code)
+	b.Batch()
+	want += program + batch
+	tells("a program and a batch")
+}
+
+// A batch is told as often as it is run, however few it decides, and though all fail.
+func TestP5EntryOfEachBatch(t *testing.T) {
+	batch := bytesOf(t, "4200009660")
+	b := bookWith(t, 8, counter(), counter(), code(fail()), counter())
+	programs := b.Log()
+	for n := 1; n <= 3; n++ {
+		b.Batch()
+		if want := programs + strings.Repeat(batch, n); b.Log() != want {
+			t.Errorf("Log behind %d batches = %x, want %x", n, b.Log(), want)
+		}
+	}
+	b = bookWith(t, 8, code(fail()))
+	programs = b.Log()
+	b.Flush()
+	if b.Log() != programs+batch {
+		t.Errorf("Log behind a batch that fails = %x", b.Log())
+	}
+}

@@ -1,8 +1,11 @@
 // Package journal: the entries that a log is made of.
 package journal
 
-// HandedIn is the kind of an entry that tells of a program handed in.
-const HandedIn = 'S'
+// The kinds of entries.
+const (
+	HandedIn = 'S' // a program was handed in
+	BatchRun = 'B' // a batch was run
+)
 
 // Append adds to the log an entry of that kind. A payload has fewer than 2^16 bytes: its length stands in two.
 func Append(log []byte, kind byte, payload []byte) []byte {

@@ -11,7 +11,7 @@ func TestAppend(t *testing.T) {
 		kind                 byte
 		payload, front, tail string
 	}{
-		{'B', "", "B\x00\x00", "\x96\x60"},
+		{BatchRun, "", "B\x00\x00", "\x96\x60"},
 		{HandedIn, "\x0a\x03\x02", "S\x03\x00", "\xba\x0e"},
 		{'X', strings.Repeat("\x00", 256), "X\x00\x01", "\xc0\xa2"},
 		{'X', strings.Repeat("\x01", 772), "X\x04\x03", "\x0a\x60"},

@@ -1,7 +1,11 @@
 // Package keys: a key as it is held within.
 package keys
 
-import "ariabook/api"
+import (
+	"bytes"
+
+	"ariabook/api"
+)
 
 // Key is a key's letters, with zero bytes behind them. No letter is zero, so two keys are the same just if their arrays are ==, and Key{} is no key.
 type Key [api.MaxKey]byte
@@ -33,4 +37,14 @@ func (k Key) Len() int {
 		n++
 	}
 	return n
+}
+
+// Text gives the key's letters.
+func (k Key) Text() string {
+	return string(k[:k.Len()])
+}
+
+// Compare is below 0, 0 or above 0, as one is ahead of the other, the same or behind it, byte by byte. The zero bytes are below all letters, so a key is ahead of those that begin with it.
+func Compare(one, other Key) int {
+	return bytes.Compare(one[:], other[:])
 }

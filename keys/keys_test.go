@@ -1,6 +1,9 @@
 package keys
 
-import "testing"
+import (
+	"cmp"
+	"testing"
+)
 
 func TestOf(t *testing.T) {
 	for _, c := range []struct {
@@ -31,6 +34,25 @@ func TestKeysAreTold(t *testing.T) {
 		for _, other := range texts {
 			if (Of(one) == Of(other)) != (one == other) {
 				t.Errorf("Of(%q) == Of(%q) is %v", one, other, Of(one) == Of(other))
+			}
+		}
+	}
+}
+
+func TestText(t *testing.T) {
+	for _, text := range []string{"a", "zz", "abc", "abcd"} {
+		if got := Of(text).Text(); got != text {
+			t.Errorf("Of(%q).Text() = %q", text, got)
+		}
+	}
+}
+
+func TestCompare(t *testing.T) {
+	rising := []string{"a", "aa", "aaaa", "aaab", "ab", "abz", "b", "ba", "z", "zaaa", "zz", "zzzz"}
+	for i, one := range rising {
+		for k, other := range rising {
+			if got, want := Compare(Of(one), Of(other)), cmp.Compare(i, k); got != want {
+				t.Errorf("Compare(%q, %q) = %d, want %d", one, other, got, want)
 			}
 		}
 	}
