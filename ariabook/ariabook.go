@@ -139,5 +139,28 @@ func (b *Book) All() []api.Pair {
 	return all
 }
 
-// Replay makes a book of a log's bytes (P11).
-func Replay(log string, batch, workers int) (*Book, api.Errno) { return nil, api.OK }
+// Replay makes a book of a log's bytes (P11). The calls that it makes again write the same entries again, so the new log needs no other care.
+func Replay(log string, batch, workers int) (*Book, api.Errno) {
+	b, e := New(batch, workers)
+	if e != api.OK {
+		return nil, e
+	}
+	for entry := range journal.Entries(log) {
+		if !b.redo(entry) {
+			break
+		}
+	}
+	return b, api.OK
+}
+
+// redo does what the entry tells; false, and nothing is done, if it tells of no program that may be handed in, and of no batch while something waits. (A batch that is run tells its first at least.)
+func (b *Book) redo(entry journal.Entry) bool {
+	switch entry.Kind {
+	case journal.HandedIn:
+		_, e := b.Submit(program.Code(entry.Payload))
+		return e == api.OK
+	case journal.BatchRun:
+		return entry.Payload == "" && len(b.Batch()) > 0
+	}
+	return false
+}

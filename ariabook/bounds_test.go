@@ -13,6 +13,9 @@ func TestP3KeepsItsBounds(t *testing.T) {
 			if b, e := New(batch, workers); e != api.OK || b.batch != batch || b.workers != workers {
 				t.Errorf("New(%d, %d) = %v, %d", batch, workers, b, e)
 			}
+			if b, e := Replay("", batch, workers); e != api.OK || b.batch != batch || b.workers != workers {
+				t.Errorf("Replay(.., %d, %d) = %v, %d", batch, workers, b, e)
+			}
 		}
 	}
 }

@@ -1,6 +1,7 @@
 package ariabook_test
 
 import (
+	"math/rand/v2"
 	"slices"
 	"strings"
 	"testing"
@@ -84,16 +85,11 @@ func TestP1OtherCallsNeverPanic(t *testing.T) {
 			if d, e := b.Result(n); e != api.OK && d != (api.Done{}) {
 				t.Errorf("Result(%d) = %v, with error %d", n, d, e)
 			}
-			ariabook.Replay(b.Log(), n, n)
-			ariabook.Replay(b.Log(), 1, n)
-			ariabook.Replay(b.Log(), n, 1)
 		}
 		for _, text := range texts() {
 			if n, e := b.Get(text); e != api.OK && n != 0 {
 				t.Errorf("Get(%.20q) = %d, with error %d", text, n, e)
 			}
-			ariabook.Replay(text, 1, 1)
-			ariabook.Replay(b.Log()+text, 1, 1)
 		}
 		b.All()
 		b.Batch()
@@ -126,4 +122,79 @@ func TestP1FirstNamedError(t *testing.T) {
 	fill(t, b, 1)
 	refuse(t, b, api.ErrFull, []api.Ins{{Op: api.Out}})
 	refuse(t, b, api.ErrProc, []api.Ins{{Op: 12}})
+}
+
+// replayAndUse makes a book of any bytes, and makes all calls of it.
+func replayAndUse(t *testing.T, log string, batch, workers int) {
+	t.Helper()
+	b, e := ariabook.Replay(log, batch, workers)
+	if (b == nil) != (e != api.OK) {
+		t.Fatalf("Replay(%.60x, %d, %d) = %v, %d", log, batch, workers, b, e)
+	}
+	if b == nil {
+		return
+	}
+	if !strings.HasPrefix(log, b.Log()) {
+		t.Errorf("Replay(%.60x, %d, %d): its log is not the beginning of what was handed in", log, batch, workers)
+	}
+	b.Submit(counter())
+	b.Batch()
+	b.Flush()
+	b.All()
+	b.Get("x")
+	if _, e := b.Result(1); e != api.OK {
+		t.Errorf("Replay(%.60x, %d, %d): behind Flush Result(1) = error %d", log, batch, workers, e)
+	}
+}
+
+func TestP1ReplayNeverPanics(t *testing.T) {
+	for _, b := range states(t) {
+		log := b.Log()
+		for _, n := range edges() {
+			replayAndUse(t, log, n, n)
+			replayAndUse(t, log, 1, n)
+			replayAndUse(t, log, n, 1)
+		}
+		for _, text := range texts() {
+			replayAndUse(t, text, 1, 1)
+			replayAndUse(t, log+text, 8, 5)
+			replayAndUse(t, text+log, 2, 2)
+		}
+		for from := range min(len(log), 300) {
+			replayAndUse(t, log[from:], 3, 3)
+		}
+	}
+}
+
+// Bytes by chance are hardly ever an entry, so kinds and sums are set right here, and the payloads are by chance.
+func TestP1ReplayOfRawBytes(t *testing.T) {
+	chance := rand.New(rand.NewPCG(1, 20))
+	raw := func(length, below int) string {
+		bytes := make([]byte, length)
+		for i := range bytes {
+			bytes[i] = byte(chance.IntN(below))
+		}
+		return string(bytes)
+	}
+	for _, length := range []int{0, 1, 2, 3, 4, 5, 6, 7, 8, 100, 65535, 65536, 65540, 3_000_000} {
+		for _, below := range []int{1, 2, 13, 256} {
+			bytes := raw(length, below)
+			for _, kind := range []string{"", "S", "B", "S\x03\x00", "S\xff\xff", "B\xff\xff", "\xff\xff\xff"} {
+				replayAndUse(t, kind+bytes, 1+chance.IntN(8), 1+chance.IntN(5))
+			}
+		}
+	}
+	for range 3000 {
+		log := ""
+		for range 1 + chance.IntN(4) {
+			kind := []string{"S", "S", "S", "B", "X"}[chance.IntN(5)]
+			log += entry(kind, raw(chance.IntN(30), []int{2, 5, 13, 256}[chance.IntN(4)]))
+		}
+		replayAndUse(t, log, 1+chance.IntN(8), 1+chance.IntN(5))
+	}
+	for _, length := range []int{255, 256, 257, 65534, 65535} {
+		for _, below := range []int{1, 4, 256} {
+			replayAndUse(t, entry("S", raw(length, below))+entry("B", ""), 1, 1)
+		}
+	}
 }

@@ -248,3 +248,44 @@ func TestP2TellingChangesNothing(t *testing.T) {
 		t.Error("calls that tell changed the book")
 	}
 }
+
+// A book and the one that Replay made of its log go their own ways: each answers as if the other had never been.
+func TestP2ReplayedBooksDoNotTouch(t *testing.T) {
+	steps := slices.Concat(busy(), [][]api.Ins{nil, nil, nil}, mixed())
+	was := done(t, 3, 2, steps)
+	now, again := replay(t, was.Log(), 3, 4), replay(t, was.Log(), 3, 1)
+	before := state(was)
+	handIn(t, now, code(set(0, 77), put("x", 0), del("abcd")), counter())
+	now.Batch()
+	now.Flush()
+	if state(was) != before || state(again) != before {
+		t.Error("what was asked of a replayed book changed another")
+	}
+	ahead := state(now)
+	alone := transcript(done(t, 3, 2, steps), busy())
+	if transcript(was, busy()) != alone {
+		t.Error("a book that was replayed goes on otherwise than one that was not")
+	}
+	if state(now) != ahead {
+		t.Error("what was asked of a book changed the one that was replayed of it")
+	}
+	if transcript(again, busy()) != alone {
+		t.Error("a replayed book goes on otherwise when others have gone on ahead of it")
+	}
+}
+
+func TestP2ReplayedListsAreTheCallers(t *testing.T) {
+	log := done(t, 3, 2, slices.Concat(busy(), [][]api.Ins{nil, nil})).Log()
+	spoiled, left := replay(t, log, 3, 2), replay(t, log, 3, 2)
+	for range len(busy()) {
+		one, other := spoiled.Batch(), left.Batch()
+		if !slices.Equal(one, other) {
+			t.Fatalf("Batch = %v behind lists that were written over, else %v", one, other)
+		}
+		spoil(one, api.Done{ID: 77, Batch: 78, Outcome: 79, Output: 80})
+		spoil(spoiled.All(), api.Pair{Key: "spoilt", Number: 81})
+		if state(spoiled) != state(left) {
+			t.Fatal("a replayed book hangs on what the caller wrote into lists")
+		}
+	}
+}

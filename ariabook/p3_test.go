@@ -33,3 +33,24 @@ func TestP3ABookIsEmpty(t *testing.T) {
 		accept(t, b, 1, []api.Ins{{}})
 	}
 }
+
+// Replay keeps to the size of the batches, too: of the log's own batches and of those behind it.
+func TestP3ReplayKeepsItsBatch(t *testing.T) {
+	ten := bookOf(t, 4, 1)
+	for range 10 {
+		handIn(t, ten, code(out(0)))
+	}
+	ten.Batch()
+	for batch := 1; batch <= 8; batch++ {
+		b := replay(t, ten.Log(), batch, 5)
+		waiting := 10 - batch
+		for id := 1; id <= 10; id++ {
+			if _, e := b.Result(id); (e == api.OK) != (id <= batch) {
+				t.Errorf("Replay with batches of %d: Result(%d) = error %d", batch, id, e)
+			}
+		}
+		if n := len(b.Batch()); n != min(batch, waiting) {
+			t.Errorf("Replay with batches of %d: the next decides %d", batch, n)
+		}
+	}
+}

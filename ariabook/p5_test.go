@@ -130,3 +130,35 @@ func TestP5EntryOfEachBatch(t *testing.T) {
 		t.Errorf("Log behind a batch that fails = %x", b.Log())
 	}
 }
+
+// Behind Replay the log goes on where the entries that were done end.
+func TestP5LogBehindReplay(t *testing.T) {
+	program, batch := bytesOf(t, "5303000a0302ba0e"), bytesOf(t, "4200009660")
+	code := []api.Ins{{Op: api.Out, R: 3, S: 2}}
+	for _, tail := range []string{"", program[:7], batch[:4], "no entry", "X" + batch[1:] + program, batch} {
+		b, want := replay(t, program+batch+tail, 2, 2), program+batch
+		tells := func(behind string) {
+			t.Helper()
+			if log := b.Log(); log != want {
+				t.Errorf("Log behind %s = %x, want %x", behind, log, want)
+			}
+		}
+		tells("Replay")
+		b.Batch()
+		b.Flush()
+		tells("batches of nothing")
+		accept(t, b, 2, code)
+		refuse(t, b, api.ErrProc, nil)
+		want += program
+		tells("a program")
+		b.Batch()
+		want += batch
+		tells("a batch")
+		accept(t, b, 3, code)
+		accept(t, b, 4, code)
+		accept(t, b, 5, code)
+		b.Flush()
+		want += program + program + program + batch + batch
+		tells("Flush")
+	}
+}

@@ -38,11 +38,11 @@ func instruction(given api.Ins, length int) (Ins, bool) {
 		return Ins{}, false
 	}
 	ins := Ins{Op: byte(given.Op), R: byte(given.R), S: byte(given.S)}
-	if ins.needsKey() {
+	if needsKey(ins.Op) {
 		ins.Key = keys.Of(given.Key)
 		return ins, !ins.Key.IsNone()
 	}
-	if ins.needsNumber() {
+	if needsNumber(ins.Op) {
 		ins.N = given.N
 	}
 	return ins, ins.Op != api.Jump || within(ins.N, 0, length-1)
@@ -56,10 +56,10 @@ func isRegister(n int) bool {
 	return within(n, 0, api.Registers-1)
 }
 
-func (i Ins) needsKey() bool {
-	return i.Op == api.Get || i.Op == api.Has || i.Op == api.Put || i.Op == api.Del
+func needsKey(op byte) bool {
+	return op == api.Get || op == api.Has || op == api.Put || op == api.Del
 }
 
-func (i Ins) needsNumber() bool {
-	return i.Op == api.Set || i.Op == api.Jump
+func needsNumber(op byte) bool {
+	return op == api.Set || op == api.Jump
 }
